@@ -1,0 +1,1 @@
+"""Rightatlast: classical derivations that are run by guesses and corrections."""

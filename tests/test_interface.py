@@ -1,0 +1,63 @@
+"""The interface: names, arguments, and where they are defined."""
+
+import importlib
+import inspect
+import unittest
+
+FUNCTIONS = {
+    "words": ["is_name(text)", "is_letter(text)", "is_relation(text)", "is_choice(text)", "tokens(text)"],
+    "termtext": ["read_term(text)"],
+    "formulatext": ["read_formula(text)"],
+    "putting": ["put_names(thing, terms)", "put_letters(thing, terms)", "put_choice(thing, old, new)"],
+    "pieces": ["choice_terms(things)", "atoms_of(formulas)", "members_of(formula)"],
+    "books": ["body_at(choice, parts, term)"],
+    "values": ["value_of(term, world, inputs, guesses)", "truth_of(formula, world, inputs, guesses)",
+               "look_at(formula, world, inputs, guesses)"],
+    "corrections": ["wrong_entry(world, guesses)", "open_demands(task, guesses)", "correction(task, guesses, number)",
+                    "corrected(task, guesses, number)"],
+}
+# Class methods are shown as they are called, without `cls`.
+CLASSES = {
+    "terms.Term": ["of_number(number)", "of_name(word)", "of_letter(word)", "of_function(name, *parts)",
+                   "of_choice(name, *parts)", "__add__(self, number)", "__eq__(self, other)", "__str__(self)"],
+    "formulas.Formula": ["same(left, right)", "most(left, right)", "holds(name, *terms)", "some(letter, part)",
+                         "every(letter, part)", "__invert__(self)", "__and__(self, other)", "__or__(self, other)",
+                         "__rshift__(self, other)", "__eq__(self, other)", "__str__(self)"],
+    "books.Choice": [],
+    "books.Book": ["read(text)", "choice_of(self, name)", "fits(self, thing)", "extended(self, name, count, body)",
+                   "__eq__(self, other)", "__str__(self)"],
+    "worlds.World": ["read(book, text)", "at(self, name, *numbers)", "changed(self, name, place, value)",
+                     "__eq__(self, other)", "__str__(self)"],
+    "guesses.Guesses": ["__init__(self, rows)", "read(text)", "at(self, name, numbers)", "has(self, name, numbers)",
+                        "added(self, name, numbers, number)", "without(self, names)", "within(self, other)",
+                        "__or__(self, other)", "__len__(self)", "__iter__(self)", "__eq__(self, other)",
+                        "__str__(self)"],
+    "values.Look": [],
+    "demands.Demand": ["__init__(self, book, head, by)", "read(book, text)", "__eq__(self, other)", "__str__(self)"],
+    "tasks.Task": ["__init__(self, book, world, inputs, rows)", "false_ones(self, guesses)", "stands(self, guesses)"],
+}
+
+
+class InterfaceTest(unittest.TestCase):
+
+    def test_functions(self):
+        for module, shown in FUNCTIONS.items():
+            names = vars(importlib.import_module(f"rightatlast.{module}"))
+            for text in shown:
+                function = names[text.partition("(")[0]]
+                self.assertEqual(function.__name__ + str(inspect.signature(function)), text)
+                self.assertEqual(function.__module__, f"rightatlast.{module}")
+
+    def test_classes_define_their_methods_themselves(self):
+        for path, shown in CLASSES.items():
+            module, _, name = path.partition(".")
+            found = getattr(importlib.import_module(f"rightatlast.{module}"), name)
+            self.assertEqual(found.__module__, f"rightatlast.{module}")
+            for text in shown:
+                method = text.partition("(")[0]
+                self.assertIn(method, vars(found), path)
+                self.assertEqual(method + str(inspect.signature(getattr(found, method))), text, path)
+
+
+if __name__ == "__main__":
+    unittest.main()
