@@ -82,6 +82,7 @@ class Book:
         self.functions = tuple([(name, count) for word, name, count in self.tables if word == "fun"])
         self.relations = tuple([(name, count) for word, name, count in self.tables if word == "rel"])
         self.choices = tuple([row[3] for row in declarations if row[0] == "pick"])
+        self.upper_names = tuple([choice.name for choice in self.choices if choice.upper])
         self.text = "\n".join([_declaration_text(row[0], row[1], row[2], row[3]) for row in declarations])
         self._counts = {row[1]: row[2] for row in declarations}
         self._choices = {choice.name: choice for choice in self.choices}

@@ -1,81 +1,80 @@
-"""Right guesses, open demands and corrections: points 23 to 25."""
+"""Right guesses, open demands and corrections: points 23 to 26."""
 
+from rightatlast.ascent import Ascent, open_among
 from rightatlast.errors import NotOpen, NotRight, TooLarge
-from rightatlast.scenes import Scene
+from rightatlast.guesses import Guesses
+from rightatlast.scenes import body_holds, body_scene, smallest_fit
 
 MOST_ENTRIES = 2000
 MOST_SUM = 20000
 
 
-def _body_scene(choice, world, table, numbers):
-    """The scene for the body of a choice in which the parameters have the numbers of a key."""
-    words = {f"p{place}": number for place, number in enumerate(numbers, start=1)}
-    words["y0"] = 0
-    return Scene(world, words, table)
+def check_amount(guesses):
+    """Raises TooLarge if there are too many guesses, or too large ones, to examine whether they are right."""
+    if len(guesses) > MOST_ENTRIES or sum([row[2] + 1 for row in guesses.rows]) > MOST_SUM:
+        raise TooLarge()
 
 
-def _smallest_fit(choice, world, numbers, most):
-    """The smallest number from 0 to `most` for which the body of a ground choice holds, or None."""
-    scene = _body_scene(choice, world, {}, numbers)
-    for number in range(most + 1):
-        scene.words["y0"] = number
-        if scene.truth_for(choice.body):
-            return number
-    return None
-
-
-def _is_right(world, table, name, numbers):
+def is_right(world, table, name, numbers):
     """True if the entry at a key of a table is right in a world with the guesses of the table."""
     found = [choice for choice in world.book.choices if choice.name == name and choice.count == len(numbers)]
     if len(found) == 0:
         return False
     choice = found[0]
     number = table[(name, numbers)]
-    if not choice.upper:
-        return _smallest_fit(choice, world, numbers, number) == number
-    scene = _body_scene(choice, world, table, numbers)
-    scene.words["y0"] = number
-    return scene.truth_for(choice.body)
+    scene = body_scene(world, table, numbers)
+    if choice.upper:
+        return body_holds(choice, scene, number)
+    return smallest_fit(choice, scene, number) == number
 
 
 def wrong_entry(world, guesses):
     """The key of the first entry that is not right in a world, or None."""
-    if len(guesses) > MOST_ENTRIES or sum([row[2] + 1 for row in guesses.rows]) > MOST_SUM:
-        raise TooLarge()
+    check_amount(guesses)
     table = guesses.as_table()
     for name, numbers, _ in guesses.rows:
-        if not _is_right(world, table, name, numbers):
+        if not is_right(world, table, name, numbers):
             return (name, numbers)
     return None
 
 
+def check_right(world, guesses):
+    """Raises NotRight for the first entry that is not right in a world."""
+    wrong = wrong_entry(world, guesses)
+    if wrong is not None:
+        raise NotRight(wrong[0], wrong[1])
+
+
+def right_start(task, start):
+    """What remains of a start, guesses or None, without the entries of upper choices; it must be right."""
+    if start is None:
+        return Guesses([])
+    remaining = start.without(list(task.book.upper_names))
+    check_right(task.world, remaining)
+    return remaining
+
+
 def open_demands(task, guesses):
     """The tuple of the numbers of the open demands."""
-    false_ones = task.false_ones(guesses)
-    ground = tuple([number for number in false_ones if not task.demands[number - 1].choice.upper])
-    return ground if len(ground) > 0 else false_ones[:1]
+    return open_among(task, task.false_ones(guesses))
+
+
+def _ascent_at(task, guesses, number):
+    """The ascent that begins with right guesses at which the demand with a number is open."""
+    check_right(task.world, guesses)
+    ascent = Ascent(task, guesses)
+    if number not in ascent.open_numbers():
+        raise NotOpen(number)
+    return ascent
 
 
 def correction(task, guesses, number):
     """The step `(number, name, numbers, entered)` that corrects the open demand with a number."""
-    wrong = wrong_entry(task.world, guesses)
-    if wrong is not None:
-        raise NotRight(wrong[0], wrong[1])
-    if number not in open_demands(task, guesses):
-        raise NotOpen(number)
-    demand = task.demands[number - 1]
-    scene = task.scene(guesses.as_table())
-    numbers = scene.numbers_for(demand.head.parts)
-    entered = scene.number_for(demand.by)
-    if not demand.choice.upper:
-        entered = _smallest_fit(demand.choice, task.world, numbers, entered)
-    return (number, demand.choice.name, numbers, entered)
+    return _ascent_at(task, guesses, number).correction_of(number)
 
 
 def corrected(task, guesses, number):
     """The guesses after this correction."""
-    _, name, numbers, entered = correction(task, guesses, number)
-    after = guesses.added(name, numbers, entered)
-    if task.book.choice_of(name).upper:
-        return after
-    return after.without([choice.name for choice in task.book.choices if choice.upper])
+    ascent = _ascent_at(task, guesses, number)
+    ascent.enter(ascent.correction_of(number))
+    return ascent.reached()

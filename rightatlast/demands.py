@@ -8,6 +8,15 @@ from rightatlast.parsing import Parser
 MOST_CHARACTERS = 1000
 
 
+def read_head_and_by(text):
+    """The pair of the head and the by-term of the text of a demand."""
+    parser = Parser(text)
+    parser.parse_demand()
+    parser.finish()
+    head, by = built(parser.steps)
+    return (head, by)
+
+
 class Demand:
     """A demand: if the body of a choice holds at the by-term, it holds at the head."""
 
@@ -32,10 +41,7 @@ class Demand:
     @classmethod
     def read(cls, book, text):
         """The demand of a text, for a book."""
-        parser = Parser(text)
-        parser.parse_demand()
-        parser.finish()
-        head, by = built(parser.steps)
+        head, by = read_head_and_by(text)
         return cls(book, head, by)
 
     def __eq__(self, other):

@@ -45,12 +45,17 @@ def _check_without_letters(terms):
             raise HasLetters(term.letters[0])
 
 
-def put_names(thing, terms):
-    """A term or formula with terms put for names, all at once."""
+def check_names(terms):
+    """Raises an error unless the keys of a dict are names and its terms have no letters."""
     for word in terms:
         if not is_name(word):
             raise BadWord(word)
     _check_without_letters(list(terms.values()))
+
+
+def put_names(thing, terms):
+    """A term or formula with terms put for names, all at once."""
+    check_names(terms)
     return _put(thing, terms)
 
 

@@ -56,3 +56,23 @@ class Scene:
         if formula.kind == "most":
             return numbers[0] <= numbers[1]
         return self.read_table(formula.name, numbers)
+
+
+def body_scene(world, table, numbers):
+    """The scene for the body of a choice in which the parameters have the numbers of a key."""
+    words = {f"p{place}": number for place, number in enumerate(numbers, start=1)}
+    return Scene(world, words, table)
+
+
+def body_holds(choice, scene, number):
+    """True if the body of a choice holds at a number, in a scene for this body."""
+    scene.words["y0"] = number
+    return scene.truth_for(choice.body)
+
+
+def smallest_fit(choice, scene, most):
+    """The smallest number from 0 to `most` for which the body of a choice holds, or None."""
+    for number in range(most + 1):
+        if body_holds(choice, scene, number):
+            return number
+    return None

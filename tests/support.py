@@ -61,3 +61,19 @@ def nested_formula(depth):
     for _ in range(depth - 1):
         formula = ~formula
     return formula
+
+
+def term_text_of_length(length):
+    """The text of a small term with this many characters, at least 110, of the function `longfunc` with two parts."""
+    count = -(-(length + 12) // 40)
+    leaves = ["abcdefgh"] * (2 * count)
+    surplus = 40 * count - 12 - length
+    for place in range(len(leaves)):
+        cut = min(7, surplus)
+        leaves[place] = leaves[place][cut:]
+        surplus -= cut
+    while len(leaves) > 1:
+        pairs = [f"longfunc({first}, {second})" for first, second in zip(leaves[::2], leaves[1::2])]
+        leaves = pairs + leaves[len(pairs) * 2:]
+    assert len(leaves[0]) == length
+    return leaves[0]

@@ -15,6 +15,25 @@ FUNCTIONS = {
                "look_at(formula, world, inputs, guesses)"],
     "corrections": ["wrong_entry(world, guesses)", "open_demands(task, guesses)", "correction(task, guesses, number)",
                     "corrected(task, guesses, number)"],
+    "flags": ["choice_list(task)", "flags(task, guesses)", "storeys(task)", "bound(task)"],
+    "journals": ["first_wrong_step(task, start, journal)", "replayed(task, start, journal)",
+                 "is_finished(task, start, journal)", "phases(task, journal)"],
+    "climbing": ["climb(task, *, picks=(), start=None, limit=1000)",
+                 "climb_steps(task, *, picks=(), start=None, limit=1000)"],
+    "quick": ["quick_climb(task, *, picks=(), start=None, limit=1000)"],
+    "tower": ["tower(m)"],
+    "going": ["kept(world, guesses)", "resume(task, guesses, *, picks=(), limit=1000)", "needed(task, guesses)",
+              "watched(task, *, picks=(), limit=1000)"],
+    "lines": ["read_line(book, text, row)"],
+    "boxes": ["boxes_of(derivation, number)", "may_cite(derivation, number, cited)",
+              "may_cite_box(derivation, number, opening)"],
+    "orders": ["order_gap(formula)"],
+    "follows": ["entails(formulas, formula)"],
+    "swaps": ["is_swap(formula, other, left, right)"],
+    "choicerules": ["demand_formula(book, head, by)", "least_formula(book, head, by)", "zero_formula(book, head)"],
+    "checker": ["first_wrong_line(library, derivation)", "is_accepted(library, derivation)",
+                "put_in_derivation(derivation, terms)"],
+    "unfolding": ["unfolded(library, derivation)"],
 }
 # Class methods are shown as they are called, without `cls`.
 CLASSES = {
@@ -35,6 +54,13 @@ CLASSES = {
     "values.Look": [],
     "demands.Demand": ["__init__(self, book, head, by)", "read(book, text)", "__eq__(self, other)", "__str__(self)"],
     "tasks.Task": ["__init__(self, book, world, inputs, rows)", "false_ones(self, guesses)", "stands(self, guesses)"],
+    "journals.Journal": ["__init__(self, steps)", "read(text)", "__len__(self)", "__eq__(self, other)", "__str__(self)"],
+    "climbing.Climb": [],
+    "lines.Line": ["__eq__(self, other)", "__str__(self)"],
+    "derivations.Derivation": ["read(book, text)", "__len__(self)", "__iter__(self)", "__eq__(self, other)",
+                               "__str__(self)"],
+    "library.Library": ["__init__(self, book)", "added(self, name, derivation)", "fact(self, name)",
+                        "__contains__(self, name)"],
 }
 
 
