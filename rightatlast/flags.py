@@ -11,14 +11,15 @@ def choice_list(task):
     return choice_terms_of(task.demands)
 
 
+def marks(task, terms, table):
+    """The text with 1 for each of some choice terms that has an entry in a table of guesses, and 0 for each other."""
+    scene = task.scene(table)
+    return "".join(["1" if (term.name, scene.numbers_for(term.parts)) in table else "0" for term in terms])
+
+
 def flags(task, guesses):
     """The text with 1 for each choice term of the list that has an entry, and 0 for each other one."""
-    scene = task.scene(guesses.as_table())
-    marks = []
-    for term in choice_list(task):
-        has_entry = guesses.has(term.name, scene.numbers_for(term.parts))
-        marks.append("1" if has_entry else "0")
-    return "".join(marks)
+    return marks(task, choice_list(task), guesses.as_table())
 
 
 def storeys(task):

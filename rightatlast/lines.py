@@ -52,16 +52,14 @@ class Line:
         return str(self.text)
 
 
-def _read_citing(depth, formula, words):
-    """The line whose reason consists of some words that are a reason and numbers of lines, or None."""
+def cited_numbers(words):
+    """The list of the numbers of lines behind the first one of some words, or None if these are not such a reason."""
     numbers = [number_in(word, MOST_LINES) for word in words[1:]]
     if None in numbers or 0 in numbers:
         return None
     if words[0] == "follows":
-        fitting = len(numbers) <= MOST_FOLLOWED
-    else:
-        fitting = COUNTS.get(words[0]) == len(numbers)
-    return Line(depth, formula, words[0], numbers) if fitting else None
+        return numbers if len(numbers) <= MOST_FOLLOWED else None
+    return numbers if COUNTS.get(words[0]) == len(numbers) else None
 
 
 def _read_puts(text):
@@ -103,7 +101,8 @@ def _read_reason(depth, formula, text):
         return Line(depth, formula, reason, terms=(head,)) if head.kind == "choice" else None
     if reason == "fact":
         return _read_fact(depth, formula, rest)
-    return _read_citing(depth, formula, text.split(" "))
+    numbers = cited_numbers(text.split(" "))
+    return Line(depth, formula, reason, numbers) if numbers is not None else None
 
 
 def _can_stand(book, line):

@@ -127,8 +127,8 @@ class SlowClimb:
         raise AssertionError("no number fits")
 
 
-def long_task():
-    """A task whose climb makes 2175 corrections.
+def long_task(gates=33):
+    """A task whose climb makes 2175 corrections, or fewer with fewer gates.
 
     It is a tower of six storeys whose by-terms are 0 as long as Gate is 0.
     Gate is the last one of 33 upper choice terms, all of which lose their
@@ -144,6 +144,6 @@ def long_task():
     by_terms = ["1"]
     for head in reversed(heads[1:]):
         by_terms.append(head if len(by_terms) == 1 else f"both({head}, {by_terms[-1]})")
-    rows = [f"{head} by both({by}, Gate(32))" for head, by in zip(heads, reversed(by_terms))]
-    rows += [f"Gate({number}) by 1" for number in range(33)]
+    rows = [f"{head} by both({by}, Gate({gates - 1}))" for head, by in zip(heads, reversed(by_terms))]
+    rows += [f"Gate({number}) by 1" for number in range(gates)]
     return Task(book, World.read(book, "top 1\nboth 0 0 0 1"), {}, rows)

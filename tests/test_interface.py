@@ -34,6 +34,13 @@ FUNCTIONS = {
     "checker": ["first_wrong_line(library, derivation)", "is_accepted(library, derivation)",
                 "put_in_derivation(derivation, terms)"],
     "unfolding": ["unfolded(library, derivation)"],
+    "runs": ["run(library, derivation, world, inputs, *, picks=(), limit=1000)"],
+    "codes": ["code_of(task)"],
+    "machine": ["machine_run(code, world, inputs, *, limit=1000)"],
+    "tables": ["climb_table(end)"],
+    "shapes": ["holes_of(formula, letter)", "shape_of(formula, letter)"],
+    "telling": ["tell_formula(book, formula)"],
+    "spokenlines": ["read_spoken_line(book, text, row)"],
 }
 # Class methods are shown as they are called, without `cls`.
 CLASSES = {
@@ -61,6 +68,12 @@ CLASSES = {
                                "__str__(self)"],
     "library.Library": ["__init__(self, book)", "added(self, name, derivation)", "fact(self, name)",
                         "__contains__(self, name)"],
+    "runs.Run": [],
+    "codes.Code": ["read(text)", "__len__(self)", "__eq__(self, other)", "__str__(self)"],
+    "telling.Told": [],
+    "spokenlines.SpokenLine": ["__eq__(self, other)", "__str__(self)"],
+    "spoken.Spoken": ["read(book, inputs, text)", "__len__(self)", "__iter__(self)", "__eq__(self, other)",
+                      "__str__(self)"],
 }
 
 
