@@ -1,6 +1,17 @@
 """Values and truth of what is known to be in order: points 19, 20 and 24."""
 
 
+def joined_truth(kind, truths):
+    """The truth of a formula of a kind that is made of formulas with these truths."""
+    if kind == "not":
+        return not truths[0]
+    if kind == "and":
+        return truths[0] and truths[1]
+    if kind == "or":
+        return truths[0] or truths[1]
+    return not truths[0] or truths[1]
+
+
 class Scene:
     """A world, numbers for names and letters, and guesses; it notes what is read."""
 
@@ -39,14 +50,7 @@ class Scene:
         """The truth of a plain formula. All parts are gone through, also where it is clear already."""
         if len(formula.terms) > 0:
             return self.truth_for_atom(formula)
-        truths = [self.truth_for(part) for part in formula.parts]
-        if formula.kind == "not":
-            return not truths[0]
-        if formula.kind == "and":
-            return truths[0] and truths[1]
-        if formula.kind == "or":
-            return truths[0] or truths[1]
-        return not truths[0] or truths[1]
+        return joined_truth(formula.kind, [self.truth_for(part) for part in formula.parts])
 
     def truth_for_atom(self, formula):
         """The truth of an atom."""

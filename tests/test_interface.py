@@ -41,6 +41,14 @@ FUNCTIONS = {
     "shapes": ["holes_of(formula, letter)", "shape_of(formula, letter)"],
     "telling": ["tell_formula(book, formula)"],
     "spokenlines": ["read_spoken_line(book, text, row)"],
+    "spokennames": ["names_at(spoken, number)", "spoken_boxes(spoken, number)"],
+    "spokenrules": ["first_wrong_spoken(spoken)"],
+    "told": ["tell(spoken, numbers)"],
+    "without": ["next_choice(derivation)", "trial_terms(derivation)", "taken_out(derivation)",
+                "without_choices(derivation)"],
+    "relations": ["is_relational(formula)", "holds_in(world, inputs, claim)"],
+    "candidates": ["candidates_of(book, claim)", "demands_for(book, claim)"],
+    "settling": ["settle(book, claim)"],
 }
 # Class methods are shown as they are called, without `cls`.
 CLASSES = {
@@ -74,6 +82,10 @@ CLASSES = {
     "spokenlines.SpokenLine": ["__eq__(self, other)", "__str__(self)"],
     "spoken.Spoken": ["read(book, inputs, text)", "__len__(self)", "__iter__(self)", "__eq__(self, other)",
                       "__str__(self)"],
+    "settling.Settled": [],
+    "desk.Desk": ["__init__(self, task)", "set_place(self, name, place, value)", "set_input(self, name, number)",
+                  "add_demand(self, text)", "remove_demand(self, number)", "correct(self, pick)",
+                  "settle(self, limit=1000)", "undo(self)", "redo(self)", "__eq__(self, other)", "__str__(self)"],
 }
 
 
