@@ -128,9 +128,9 @@ class SpokenExamination(Granting):
         name = self.lines[box - 1].name
         second = self.lines[box]
         last = self.lines[number - 2]
-        if second.reason != "assume" or second.depth != self.lines[box - 1].depth + 1 or last.depth != second.depth:
-            return False
-        if box + 1 not in self.frames.boxes[number - 1]:
+        # The second line opens a box that ends with the first one. It is an `assume` box, since a `fresh` one would
+        # have to be closed in another way.
+        if box + 1 not in self.frames.boxes[number - 1] or last.depth != second.depth:
             return False
         if line.term.kind == "name" and line.term.name not in self.spoken.inputs:
             return False

@@ -505,6 +505,7 @@ class RoomTest(PackageTest):
         self.refuses(UnknownName, {"name": "T"}, desk.set_place, "T", (0,), 1)
         self.refuses(BadPlace, {"place": (9,)}, desk.set_place, "f", (9,), 1)
         self.refuses(BadInput, {"name": "X"}, desk.set_input, "X", 1)
+        self.refuses(BadInput, {"name": "x"}, desk.set_input, "x", 100)
         self.refuses(BadDemand, {"row": 4}, desk.add_demand, "nothing")
         self.refuses(MissingInput, {"name": "v"}, desk.add_demand, "Any by v")
         self.refuses(NotOpen, {"demand": 7}, desk.remove_demand, 7)

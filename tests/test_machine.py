@@ -89,6 +89,28 @@ class MachineTest(PackageTest):
             self.runs_like_the_climb(task({"x": x, "z": x // 2}, "Two(f(x), Any + 1) by g(x, Low(z)) + 2", "Any by x",
                                           "Low(z) by x", "Two(z, x) by Two(x, z)", "Two(x, z) by f(x)"))
 
+    def test_each_kind_of_body(self):
+        bodies = ["y0 = p1 + 1", "(y0 = 2 or y0 = p1)", "(y0 = 2 or R(y0))", "(R(y0) -> y0 = p1)", "not R(y0)", "not not R(y0)",
+                  "(R(y0) and y0 <= p1)", "(1 <= y0 and p1 <= y0)", "S(y0, p1 + 2)", "S(p1, y0)", "f(y0) = p1", "f(y0 + 1) <= p1",
+                  "g(y0, p1) = 3", "g(p1, y0) <= y0", "(y0 = 4 -> R(p1))", "(y0 = 4 or (p1 <= y0 and not R(y0)))"]
+        signs = "abcdefghijklmnop"
+        rows = [f"pick Ch{sign} 1: {body}" for sign, body in zip(signs, bodies)]
+        book = Book.read("\n".join(BOOK.text.split("\n")[:4] + rows))
+        world = World.read(book, WORLD.text)
+        corrections = 0
+        for x in range(5):
+            demands = [f"Ch{sign}({part}) by {by}" for sign in signs for part, by in (("x", "x + 2"), ("2", "7"))]
+            for start in range(0, 32, 8):
+                made = Task(book, world, {"x": x}, demands[start:start + 8])
+                self.runs_like_the_climb(made)
+                corrections += len(climb(made).journal)
+        self.assertGreater(corrections, 30)
+
+    def test_names_that_look_like_words_of_rows(self):
+        made = task({"stop": 5, "end": 3, "demand": 2}, "Low(stop) by end", "Low(end + 3) by end", "Any by demand")
+        self.runs_like_the_climb(made)
+        self.assertEqual(len(climb(made).journal), 3)
+
     def test_values_above_the_top(self):
         self.runs_like_the_climb(task({}, "Low(2) by 99", "Any by 99", "Two(99, 98) by 97"))
 

@@ -125,6 +125,7 @@ class WrongRowsTest(PackageTest):
 
     def test_words_and_spaces(self):
         self.refused(*[f"R(x) ; {shown}" for shown in (
+            "some", "some 1", "each", "each 1", "least", "least 1", "take", "take 1", "induct", "induct 1", "induct 1 2",
             "some 1 at x", "each 1 by x", "least 1 at x", "some 1 x", "some 1 byx", "some 1 by", "some 1 by ", "some  1 by x",
             "some 1  by x", " some 1 by x", "take 1 by x", "take 1 x", "take 1 as", "take 1 as ", "take 1 as  x", "take 1 as x ",
             "take  1 as x", "take 1  as x", "take 1 as x y", "every  1", "every 1 ", "induct 1 2 x", "induct 1 2 by x",

@@ -373,6 +373,7 @@ class InductionTest(RulesTest):
         self.ends(9, "| R(n) ; induct 2 4 to n", [*self.rows, "| | (R(k) -> R(k + 1)) ; if 5"])
         self.ends(9, "| R(n) ; induct 2 4 to n", [*self.rows, "| | | | R(n) ; assume"])
         self.ends(10, "| R(n) ; induct 2 4 to n", [*self.rows, "| | | R(n) ; assume", "| | | R(n) ; among 8"])
+        self.ends(10, "| R(n) ; induct 2 4 to n", [*self.rows, "| | | | R(n) ; assume", "| | | | R(k + 1) ; among 7"])
         self.ends(0, "| R(n) ; induct 2 4 to n", [*self.rows, "| | | | R(n) ; assume", "| | | R(k + 1) ; among 7"])
         more = [*self.rows, "| | (R(k) -> R(k + 1)) ; if 5", "| | | R(k + 1) ; assume"]
         self.ends(10, "| R(n) ; induct 2 4 to n", more)
@@ -393,6 +394,11 @@ class InductionTest(RulesTest):
         self.wrong(8, *rows[:5], *last, "| (n <= n and R(0)) ; induct 3 4 to n", "0 = 0 ; order")
         first = ["| 0 <= 1 ; order", "| (0 <= 1 and R(0)) ; follows 1 2"]
         self.wrong(8, rows[0], *first, *rows[3:], "| (n <= n and R(0)) ; induct 3 4 to n", "0 = 0 ; order")
+
+    def test_the_depth(self):
+        rows = ["0 = 0 ; order", "| R(n) ; assume", "| | fresh k", "| | | 0 = 0 ; assume"]
+        self.right(*rows, "| 0 = 0 ; induct 1 3 to 5", "0 = 0 ; order")
+        self.wrong(5, *rows, "0 = 0 ; induct 1 3 to 5")
 
     def test_names_of_the_box_behind_it(self):
         self.wrong(9, *self.rows, "| R(n) ; induct 2 4 to n", "| k = k ; order", "0 = 0 ; order")

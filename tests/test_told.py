@@ -421,6 +421,13 @@ class ErrorsTest(TellingTest):
         self.refused(TooLarge, {}, {"m": 95, "n": 1}, eleven)
         self.refused(TooWide, {}, {"m": 94, "n": 1}, eleven)
 
+    def test_other_lines_may_have_more_than_10_atoms(self):
+        five = " and ".join([f"(R(y1 + {one})" for one in range(1, 5)]) + " and R(y1 + 5)" + ")" * 4
+        other = five.replace("R(", "S(y1, ")
+        eleven = f"(some y1: {five} and (some y1: {other} and R(0)))"
+        rows = [f"| {eleven} ; assume", f"| ({eleven} or R(1)) ; among 1", f"({eleven} -> ({eleven} or R(1))) ; if 1"]
+        self.assertEqual(len(tell(spoken([], *rows), {})), 3)
+
     def lines_up_to(self, count):
         """Rows that are told as this many lines, at least 1182: an induction of 20 turns of 59 lines, and what is left."""
         turn = ["| | (S(k, 0) or not S(k, 0)) ; follows"] * 58 + ["| | 0 = 0 ; among 3"]

@@ -336,6 +336,19 @@ class LimitsTest(PackageTest):
         self.refuses(TooLarge, {}, taken_out, self.with_a_zero_line(243))
         self.refuses(TooLarge, {}, without_choices, self.with_a_zero_line(243))
 
+    def test_a_demand_whose_text_becomes_too_long(self):
+        # The formula does not show the by-term, which has the trial term twice.
+        for length in (320, 325, 329):
+            term = term_text_of_length(length)
+            made = derivation(f"(g(Any, {term}) = 3 -> g(Any, Ut) = 3) ; demand Ut by {term}",
+                              "(Ut = 0 -> Ut = 0) ; demand Never(Ut, n) by g(Ut, Ut)", "0 = 0 ; order")
+            text = f"Never({term}, n) by g({term}, {term})"
+            if len(text) > 1000:
+                self.refuses(TooLarge, {}, taken_out, made)
+            else:
+                self.assertEqual(first_wrong_line(Library(BOOK), taken_out(made)), 0)
+        self.assertGreater(len(text), 1000)
+
     def with_a_zero_line(self, length):
         """A derivation with a trial term of this length for Ut, and a zero line of Low(Ut)."""
         term = term_text_of_length(length)
