@@ -58,19 +58,19 @@ def told_in(book, formula):
     """What a formula is told as in a book that it fits. It may have free letters, which stay."""
     if not formula.quantified:
         return Told(book, formula, None)
-    parts = []
+    found = []
     for part in formula.parts:
         told = told_in(book, part)
         book = told.book
-        parts.append(told.formula)
+        found.append(told.formula)
     if formula.kind not in QUANTIFIERS:
-        return Told(book, Formula(formula.kind, formula.name, (), parts), None)
+        return Told(book, Formula(formula.kind, formula.name, (), found), None)
     letter = formula.name
-    body = _body_for(book, formula.kind, parts[0], letter)
-    holes = holes_of(parts[0], letter)
+    body = _body_for(book, formula.kind, found[0], letter)
+    holes = holes_of(found[0], letter)
     book, name = _with_choice(book, len(holes), body)
     term = Term.of_choice(name, *holes)
-    return Told(book, put_letters(parts[0], {letter: term}), term)
+    return Told(book, put_letters(found[0], {letter: term}), term)
 
 
 def tell_formula(book, formula):
